@@ -1,0 +1,1 @@
+"""Rootsabove: how many roots lie above, for all trials, borders, changes, nearby tables."""

@@ -1,0 +1,229 @@
+"""Reckoning with Python's own Fraction, apart from the package: tables are lists of lists here."""
+
+from fractions import Fraction
+from itertools import combinations, permutations
+from math import floor
+from random import Random
+
+FIGURES = 10 ** 399
+
+
+def told(number):
+    number = Fraction(number)
+    return (number.numerator, number.denominator)
+
+
+def row_told(row):
+    return tuple(told(number) for number in row)
+
+
+def table_told(table):
+    return tuple(row_told(row) for row in table)
+
+
+def read(pair):
+    return Fraction(pair[0], pair[1])
+
+
+def row_read(row):
+    return [read(pair) for pair in row]
+
+
+def table_read(table):
+    return [row_read(row) for row in table]
+
+
+def dot(one, other):
+    assert len(one) == len(other)
+    return sum((a * b for a, b in zip(one, other)), Fraction(0))
+
+
+def led(table, row):
+    return [dot(line, row) for line in table]
+
+
+def less(table, number):
+    return [[table[i][j] - (number if i == j else 0) for j in range(len(table))] for i in range(len(table))]
+
+
+def rank(rows):
+    rows = [[Fraction(number) for number in row] for row in rows]
+    found = 0
+    for column in range(len(rows[0]) if rows else 0):
+        pivot = next((k for k in range(found, len(rows)) if rows[k][column] != 0), None)
+        if pivot is None:
+            continue
+        rows[found], rows[pivot] = rows[pivot], rows[found]
+        for k in range(found + 1, len(rows)):
+            factor = rows[k][column] / rows[found][column]
+            rows[k] = [a - factor * b for a, b in zip(rows[k], rows[found])]
+        found += 1
+    return found
+
+
+def determinant(rows):
+    """By the sum over all orders of the places (Leibniz)."""
+    size = len(rows)
+    total = Fraction(0)
+    for order in permutations(range(size)):
+        turned = sum(1 for a, b in combinations(order, 2) if a > b)
+        part = Fraction(-1 if turned % 2 else 1)
+        for i in range(size):
+            part *= rows[i][order[i]]
+        total += part
+    return total
+
+
+def polynomial(table):
+    """The determinant of x - A, each order of the places multiplied out; the lowest power first."""
+    size = len(table)
+    total = [Fraction(0)] * (size + 1)
+    for order in permutations(range(size)):
+        turned = sum(1 for a, b in combinations(order, 2) if a > b)
+        part = [Fraction(-1 if turned % 2 else 1)]
+        for i in range(size):
+            by = [-table[i][order[i]], Fraction(1 if i == order[i] else 0)]
+            part = times(part, by)
+        for k in range(size + 1):
+            total[k] += part[k]
+    return total
+
+
+def times(one, other):
+    found = [Fraction(0)] * (len(one) + len(other) - 1)
+    for i, a in enumerate(one):
+        for j, b in enumerate(other):
+            found[i + j] += a * b
+    return found
+
+
+def from_roots(roots):
+    found = [Fraction(1)]
+    for root in roots:
+        found = times(found, [-Fraction(root), Fraction(1)])
+    return found
+
+
+def changes(numbers):
+    signs = [number > 0 for number in numbers if number != 0]
+    return sum(1 for a, b in zip(signs, signs[1:]) if a != b)
+
+
+def counts_by_signs(table, number):
+    """By the signs of the polynomial with x + t, and with t - x, in the place of x."""
+    size = len(table)
+    numbers = polynomial(less(table, number))
+    above = changes(numbers)
+    below = changes([value * (-1) ** k for k, value in enumerate(numbers)])
+    return (above, size - above - below, below)
+
+
+def counts_by_squares(table, number):
+    """By squares taken out, one row or two rows at once (Lagrange)."""
+    form = less([[Fraction(value) for value in row] for row in table], number)
+    size = len(form)
+    above = below = 0
+    while True:
+        place = next((k for k in range(size) if form[k][k] != 0), None)
+        if place is not None:
+            worth, column = form[place][place], [row[place] for row in form]
+            form = [[form[i][j] - column[i] * column[j] / worth for j in range(size)] for i in range(size)]
+            above += worth > 0
+            below += worth < 0
+            continue
+        pair = next(((i, j) for i in range(size) for j in range(i) if form[i][j] != 0), None)
+        if pair is None:
+            return (above, size - above - below, below)
+        i, j = pair
+        value, one, other = form[i][j], [row[i] for row in form], [row[j] for row in form]
+        form = [[form[k][m] - (one[k] * other[m] + other[k] * one[m]) / value
+                 for m in range(size)] for k in range(size)]
+        above += 1
+        below += 1
+
+
+def counts_of_roots(roots, number):
+    return (sum(1 for root in roots if root > number), sum(1 for root in roots if root == number),
+            sum(1 for root in roots if root < number))
+
+
+def mirrored(table, row):
+    """H A H, H being the mirror that takes the row to its opposite: alike turned over, and of the same roots."""
+    size, length = len(row), dot(row, row)
+    mirror = [[Fraction(i == j) - 2 * row[i] * row[j] / length for j in range(size)] for i in range(size)]
+    half = [led(mirror, column) for column in table]
+    return [[dot(mirror[i], [half[k][j] for k in range(size)]) for j in range(size)] for i in range(size)]
+
+
+def along(numbers):
+    return [[Fraction(number) if i == j else Fraction(0) for j in range(len(numbers))]
+            for i, number in enumerate(numbers)]
+
+
+def blocks(parts):
+    """Tables one below the other along the slant."""
+    size = sum(len(part) for part in parts)
+    found = [[Fraction(0)] * size for _ in range(size)]
+    start = 0
+    for part in parts:
+        for i, row in enumerate(part):
+            for j, number in enumerate(row):
+                found[start + i][start + j] = Fraction(number)
+        start += len(part)
+    return found
+
+
+def mixed(source, table):
+    """The table seen through two mirrors."""
+    for _ in range(2):
+        row = [Fraction(source.randrange(-3, 4), source.randrange(1, 4)) for _ in table]
+        if any(row):
+            table = mirrored(table, row)
+    return table
+
+
+def planted(source, roots):
+    return mixed(source, along(roots))
+
+
+def some_fraction(source, size=6):
+    return Fraction(source.randrange(-size, size + 1), source.randrange(1, 5))
+
+
+def some_table(source, size, most=3):
+    found = [[Fraction(0)] * size for _ in range(size)]
+    for i in range(size):
+        for j in range(i + 1):
+            number = some_fraction(source, most) if source.randrange(3) else Fraction(0)
+            found[i][j] = found[j][i] = number
+    return found
+
+
+def great_table(source, size, is_whole):
+    found = [[Fraction(0)] * size for _ in range(size)]
+    for i in range(size):
+        for j in range(i + 1):
+            number = Fraction(source.randrange(-FIGURES * 10 + 1, FIGURES * 10))
+            if not is_whole:
+                number /= source.randrange(FIGURES, FIGURES * 10)
+            found[i][j] = found[j][i] = number
+    return found
+
+
+def near(root, many):
+    k = floor(root * many)
+    return (k, root * many == k)
+
+
+def source_of(seed):
+    # The seed is told, so that each run tries the same.
+    return Random(seed)
+
+
+def is_row_of(value, size):
+    return (type(value) is tuple and len(value) == size and all(is_told(pair) for pair in value))
+
+
+def is_told(value):
+    return (type(value) is tuple and len(value) == 2 and type(value[0]) is int and type(value[1]) is int
+            and value == told(Fraction(value[0], value[1])))

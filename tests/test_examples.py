@@ -1,0 +1,54 @@
+"""The examples of the interface, as they stand there, and those of README.md."""
+
+import doctest
+import unittest
+from pathlib import Path
+
+TABLES = r"""
+>>> from rootsabove.tables import corner_minors, is_table, likes, polynomial, root_counts, root_near, rows_at, squares_of
+>>> nil, half, one, two, three, less = (0, 1), (1, 2), (1, 1), (2, 1), (3, 1), (-1, 1)
+>>> pair, swap, plain, golden = ((two, one), (one, two)), ((nil, one), (one, nil)), ((two, nil), (nil, two)), ((nil, one), (one, one))
+>>> [is_table(pair), is_table(((one, two), (nil, one))), root_counts(pair, one), root_counts(pair, two), root_counts(swap, nil), polynomial(pair), corner_minors(pair, nil), corner_minors(pair, two)]
+[True, False, (1, 1, 0), (1, 0, 1), (1, 0, 1), ((3, 1), (-4, 1), (1, 1)), ((2, 1), (3, 1)), ((0, 1), (-1, 1))]
+>>> [len(rows_at(pair, one)), rows_at(pair, two), root_near(pair, 0, 7), root_near(golden, 0, 10), root_near(golden, 1, 10), likes(plain), likes(pair), len(squares_of(swap, nil))]
+[1, (), (21, True), (16, False), (-7, False), (2,), (1, 1), 2]
+"""
+
+# The names that the interface has bound by then.
+BEFORE_SPREADS = r"""
+>>> nil, one, two, three, four = (0, 1), (1, 1), (2, 1), (3, 1), (4, 1)
+>>> both = ((two, one), (one, two))
+"""
+
+SPREADS = r"""
+>>> from rootsabove.spreads import is_spread, sum_near, sums_table, trial_sum, turned, turns_to
+>>> [is_spread((three, one), (two, two)), is_spread((three, one), (nil, four)), is_spread((three, one), (one, one)), turns_to((three, one), (nil, four)), turns_to((three,), (three,))]
+[True, False, False, None, ()]
+>>> [turned((three, one), ((0, 1, (1, 2)),)), turned((three, one, nil), ((0, 2, (2, 3)), (1, 0, nil))), turned((three, one), turns_to((three, one), (one, three)))]
+[((2, 1), (2, 1)), ((1, 1), (2, 1), (1, 1)), ((1, 1), (3, 1))]
+>>> cross = ((nil, one, nil), (one, nil, nil), (nil, nil, (5, 1)))
+>>> [sums_table(cross, 2), sums_table(both, 2), sum_near(cross, 2, 1), sum_near(both, 1, 10), trial_sum(both, ((one, one),)), trial_sum(both, ((one, nil), (one, one)))]
+[(((0, 1), (0, 1), (0, 1)), ((0, 1), (5, 1), (1, 1)), ((0, 1), (1, 1), (5, 1))), (((4, 1),),), (6, True), (30, True), (3, 1), (4, 1)]
+"""
+
+
+class Examples(unittest.TestCase):
+    def check(self, name, text):
+        test = doctest.DocTestParser().get_doctest(text, {}, name, None, None)
+        told = []
+        failed, tried = doctest.DocTestRunner(verbose=False).run(test, out=told.append)
+        self.assertGreater(tried, 0)
+        self.assertEqual(failed, 0, "".join(told))
+
+    def test_tables(self):
+        self.check("tables", TABLES)
+
+    def test_spreads(self):
+        self.check("spreads", BEFORE_SPREADS + SPREADS)
+
+    def test_readme(self):
+        self.check("README.md", (Path(__file__).resolve().parent.parent / "README.md").read_text())
+
+
+if __name__ == "__main__":
+    unittest.main()
