@@ -2,7 +2,9 @@
 
 from math import gcd
 
-from rootsabove.errors import InvalidFraction, InvalidIndex, InvalidNumber, InvalidRoots, InvalidRow, InvalidRows
+from rootsabove.errors import (
+    InvalidCounts, InvalidFraction, InvalidIndex, InvalidNumber, InvalidRoots, InvalidRow, InvalidRows,
+)
 from rootsabove.quotients import is_above, whole_row
 from rootsabove.wholes import rest_beside
 
@@ -35,6 +37,13 @@ def is_row(value, size):
     return is_tuple_of(value, size) and first_unlike_fraction(value) is None
 
 
+def is_counts(value, most):
+    """Whether the value is a triple of whole numbers from 0 on with a sum from 1 to most."""
+    if not is_tuple_of(value, 3):
+        return False
+    return all(is_whole(part) and part >= 0 for part in value) and 1 <= sum(value) <= most
+
+
 def first_unlike_fraction(values):
     """The index of the first value that is no fraction; None if all are."""
     for index, value in enumerate(values):
@@ -45,6 +54,17 @@ def first_unlike_fraction(values):
 
 def check_fraction(number):
     if not is_fraction(number):
+        raise InvalidFraction(number)
+
+
+def check_fraction_from(number, least):
+    """Checks a fraction from the least one on."""
+    if not is_fraction(number) or is_above(least, number):
+        raise InvalidFraction(number)
+
+
+def check_fraction_below(number, bound):
+    if not is_fraction(number) or not is_above(bound, number):
         raise InvalidFraction(number)
 
 
@@ -61,6 +81,12 @@ def check_number(number, most):
 
 def check_many(many):
     check_number(many, MOST_MANY)
+
+
+def check_counts(counts, most):
+    """Checks a triple of counts with a sum from 1 to most."""
+    if not is_counts(counts, most):
+        raise InvalidCounts(counts)
 
 
 def check_row(row, size):

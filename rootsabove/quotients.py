@@ -23,6 +23,11 @@ def times(one, other):
     return fraction(one[0] * other[0], one[1] * other[1])
 
 
+def over(one, other):
+    """The one over the other, which is not 0."""
+    return fraction(one[0] * other[1], one[1] * other[0])
+
+
 def is_above(one, other):
     return one[0] * other[1] > other[0] * one[1]
 

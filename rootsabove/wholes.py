@@ -137,3 +137,24 @@ def squares_taken(table):
         number, under = fraction(number * shared, under * worth)
         row = tried_row(table)
     return found
+
+
+def opposite(table):
+    return [[-number for number in row] for row in table]
+
+
+def rows_of_worth_from_nought(table):
+    """As many free rows as there are of a worth of the table from 0 on: those beside the squares below 0."""
+    taken = squares_taken(table)
+    return noughts_under([row for share, row in taken if share[0] < 0], len(table))
+
+
+def rows_of_worth_below_nought(table):
+    """As many free rows as there are of a worth of the table below 0.
+
+    They have the product 0 with the rows of all other squares, those of 0 included:
+    other than noughts they have a product with the row of a square below 0.
+    """
+    taken = squares_taken(table)
+    others = rows_beside([row for _, row in taken], len(table))
+    return noughts_under([row for share, row in taken if share[0] > 0] + others, len(table))

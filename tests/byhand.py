@@ -155,6 +155,16 @@ def mirrored(table, row):
     return [[dot(mirror[i], [half[k][j] for k in range(size)]) for j in range(size)] for i in range(size)]
 
 
+def multiplied(one, other):
+    columns = [list(column) for column in zip(*other)]
+    return [[dot(row, column) for column in columns] for row in one]
+
+
+def seen_by(rows, table):
+    """W A W': in row i at place j the product of row i and what the table takes row j to."""
+    return [[dot(one, led(table, other)) for other in rows] for one in rows]
+
+
 def along(numbers):
     return [[Fraction(number) if i == j else Fraction(0) for j in range(len(numbers))]
             for i, number in enumerate(numbers)]
@@ -197,6 +207,18 @@ def some_table(source, size, most=3):
             number = some_fraction(source, most) if source.randrange(3) else Fraction(0)
             found[i][j] = found[j][i] = number
     return found
+
+
+def some_rows(source, size, many):
+    """Free rows."""
+    while True:
+        rows = [[some_fraction(source, 2) for _ in range(size)] for _ in range(many)]
+        if rank(rows) == many:
+            return rows
+
+
+def great_fraction(source):
+    return Fraction(source.randrange(-FIGURES * 10 + 1, FIGURES * 10), source.randrange(FIGURES, FIGURES * 10))
 
 
 def great_table(source, size, is_whole):

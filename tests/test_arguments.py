@@ -4,117 +4,15 @@ import copy
 import inspect
 import unittest
 
-from byhand import FIGURES
-from rootsabove import errors, spreads, tables
-
-NIL, HALF, ONE, TWO, THREE, LESS = (0, 1), (1, 2), (1, 1), (2, 1), (3, 1), (-1, 1)
-PAIR = ((TWO, ONE), (ONE, TWO))
-CROSS = ((NIL, ONE, NIL), (ONE, NIL, NIL), (NIL, NIL, (5, 1)))
-
-
-class Own:
-    """A thing that is no part of any told form, and is equal to all."""
-
-    def __eq__(self, other):
-        return True
-
-    __hash__ = None
-
-
-def nested(value, depth):
-    for _ in range(depth):
-        value = (value,)
-    return value
-
-
-ANYTHING = (None, True, False, -1, "text", "", b"bytes", b"", [], [1], {}, {1: 2}, set(), {1, 2}, frozenset(), Own(),
-            Own, len, object(), nested((), 14), nested(1, 14), nested([], 13), ("a", "b"), (None, None), ((), ()),
-            ([], []), ({}, {}), range(2), 10 ** 500, -10 ** 500)
-NO_ROWS = ANYTHING + (0, 1, (), (1,), (1, 2, 3), [1, 2], (2, 4), (0, 2), (0, 0), (1, 0), (1, -1), (1, -2),
-                      (-1, -2), (True, 1), (1, True), (False, 1), ("1", 2), (1, "2"), (None, 1), (1, None),
-                      ((1, 1), 1), (1, (1, 1)), "12", {1: 1, 2: 2}, (10 * FIGURES, 5))
-NO_FRACTIONS = NO_ROWS + (((1, 1), (1, 1)),)
-
-
-def not_told(value):
-    """The value told as a list in the place of one of its tuples."""
-    if type(value) is not tuple:
-        return []
-    found = [list(value)]
-    for place, part in enumerate(value):
-        found += [value[:place] + (other,) + value[place + 1:] for other in not_told(part)]
-    return found
-
-
-NO_TABLES = ANYTHING + tuple(not_told(PAIR)) + (
-    0, 1, (), ((),), ((), ()), ONE, (ONE,), (ONE, ONE), ((ONE, ONE),), ((ONE,), (ONE,)), ((ONE, TWO), (ONE, TWO)),
-    ((ONE, NIL), (NIL,)), ((ONE, NIL), (NIL, ONE, ONE)), ((ONE, NIL, NIL), (NIL, ONE, NIL)),
-    tuple(tuple(ONE if i == j else NIL for j in range(6)) for i in range(6)),
-    (((2, 2),),), (((0, 2),),), (((1, 0),),), (((1, -1),),), (((True, 1),),), (((1, True),),), ((1,),), (("ab",),),
-    ((ONE, (2, 4)), ((2, 4), ONE)), ((ONE, (1, 2)), ((2, 4), ONE)), ((ONE, None), (None, ONE)),
-    ((ONE, (1, 2)), ((-1, 2), ONE)), (((FIGURES * 10, 5),),), {0: (ONE,)}, ("ab", "ba"), (PAIR, PAIR),
+from rootsabove import errors, means, spreads, stretches, tables, trials
+from wrongs import (
+    COUNTS, CROSS, DIAGONAL, FRACTION, HALF, HIGH, INDEX, LESS, LOW, MANY, MEAN, MOST, NIL, NO_FRACTIONS, NO_TABLES,
+    NO_WHOLES, ONE, PAIR, ROOTS, ROWS, SIZE, SPREAD, TABLE, THREE, TRIAL, TRIED, TURN, TWO, WRONG_COUNTS,
+    WRONG_DIAGONAL, WRONG_ROOTS, WRONG_ROW, WRONG_ROWS, WRONG_TRIAL, WRONG_TRIED, WRONG_TURNS,
 )
-NO_WHOLES = ANYTHING + ((), (1,), ONE, "1", [0])
 
-
-def given(name, values):
-    return [(value, name, value) for value in values]
-
-
-def at(name, pairs):
-    return [(value, name, index) for value, index in pairs]
-
-
-def instead(value, place, part):
-    return value[:place] + (part,) + value[place + 1:]
-
-
-TABLE = given("InvalidTable", NO_TABLES)
-FRACTION = given("InvalidFraction", NO_FRACTIONS)
-INDEX = given("InvalidIndex", NO_WHOLES + (2, 3))
-MANY = given("InvalidNumber", NO_WHOLES + (0, 1001, -1, 2000))
-SIZE = given("InvalidNumber", NO_WHOLES + (0, 3, 4, -1))
-
-ROOTS = (THREE, ONE, NIL)
-WRONG_ROOTS = at("InvalidRoots", (
-    [(value, None) for value in (None, True, 0, 1, "abc", "", b"abc", [], list(ROOTS), {}, {1, 2, 3}, Own(), (),
-                                 (NIL,) * 7, (NIL,) * 200, ("a",) * 7)]
-    + [(instead(ROOTS, place, wrong), place) for place in range(3) for wrong in NO_FRACTIONS]
-    + [((NIL, ONE, NIL), 1), ((THREE, ONE, TWO), 2), ((ONE, TWO, "a"), 1), ((ONE, "a", TWO), 1), ((HALF, (2, 3)), 1),
-       (((-1, 2), (-1, 3)), 1), ((NIL,) * 5 + ((1, FIGURES),), 5), (("a",) * 6, 0), ((None, None), 0)]))
-
-DIAGONAL = (TWO, ONE, ONE)
-WRONG_DIAGONAL = at("InvalidRow", (
-    [(value, None) for value in (None, True, 3, "abc", b"abc", [], list(DIAGONAL), {1: 1, 2: 2, 3: 3}, {1, 2, 3},
-                                 Own(), (), (ONE,), (ONE, ONE), (ONE,) * 4, ("a",) * 4)]
-    + [(instead(DIAGONAL, place, wrong), place) for place in range(3) for wrong in NO_FRACTIONS]
-    + [((None, "a", ONE), 0), ((ONE, "a", None), 1)]))
-WRONG_ROW = at("InvalidRow", (
-    [(value, None) for value in (None, True, 3, "abc", b"abc", [], [ONE], {}, Own(), (), (ONE,) * 7, ("a",) * 8)]
-    + [(instead(DIAGONAL, place, wrong), place) for place in range(3) for wrong in NO_FRACTIONS]
-    + [((None,), 0), ((ONE,) * 5 + ("a",), 5)]))
-
-TURN = (0, 2, HALF)
-NO_TURNS = NO_FRACTIONS + (
-    [0, 2, HALF], (0, 2), (0, 2, HALF, HALF), (0, 0, HALF), (2, 2, ONE), (0, 3, HALF), (3, 0, HALF), (-1, 0, HALF),
-    (0, -1, HALF), (True, 2, HALF), (0, True, HALF), (False, 1, HALF), ("0", 1, HALF), (0, None, HALF), (0, 2, [1, 2]),
-    (0, 2, (-1, 2)), (0, 2, (3, 2)), (0, 2, (2, 1)), (0, 2, (2, 4)), (0, 2, (1, -2)), (0, 2, 1), (0, 2, 0),
-    (0, 2, True), (0, 2, None), (0, 2, (1, 0)), (0, 2, (FIGURES + 1, FIGURES)), (0, 2, (-1, FIGURES)), ((0, 2), 1, HALF),
-)
-WRONG_TURNS = at("InvalidTurns", (
-    [(value, None) for value in (None, True, 0, "abc", "", b"", [], [TURN], {}, {1, 2}, Own())]
-    + [((wrong,), 0) for wrong in NO_TURNS] + [((TURN, TURN, wrong, TURN), 2) for wrong in NO_TURNS]
-    + [((wrong, None), 0) for wrong in NO_TURNS] + [(TURN, 0), ((TURN, None, "a"), 1)]))
-
-ROWS = ((ONE, NIL), (ONE, TWO))
-WRONG_ROWS = at("InvalidRows", (
-    [(value, None) for value in (None, True, 0, "abc", "", b"", [], list(ROWS), {}, {1, 2}, Own(), ())]
-    + [((wrong,), 0) for wrong in NO_ROWS + ((ONE,), (ONE,) * 3, [ONE, ONE], (ONE, 1), (ONE, (2, 4)), (NIL, NIL))]
-    + [((ROWS[0], wrong), 1) for wrong in NO_ROWS + ((ONE,), (ONE,) * 3, [ONE, ONE], (ONE, None), (NIL, NIL))]
-    + [(((ONE, TWO), (HALF, ONE)), 1), (((ONE, TWO), (NIL, NIL), None), 1), ((ROWS[0], ROWS[1], (THREE, HALF)), 2),
-       ((ROWS[0], ROWS[1], None), 2), ((ROWS[0], ROWS[0], None), 1), (((NIL, NIL), None), 0), (ROWS[0], 0),
-       ((ROWS[0],) * 7, 1), (((FIGURES, 1), (1, FIGURES)), 0), ((((1, FIGURES), ONE), (ONE, (FIGURES, 1))), 1)]))
-
+TOLD = (("mean", MEAN, FRACTION), ("spread", TWO, SPREAD))
+STRETCH = (("low", LOW, FRACTION), ("high", THREE, HIGH))
 PARAMETERS = (
     (tables.root_counts, (("table", PAIR, TABLE), ("number", HALF, FRACTION))),
     (tables.squares_of, (("table", PAIR, TABLE), ("number", HALF, FRACTION))),
@@ -129,6 +27,19 @@ PARAMETERS = (
     (spreads.sums_table, (("table", PAIR, TABLE), ("size", 1, SIZE))),
     (spreads.sum_near, (("table", PAIR, TABLE), ("size", 2, SIZE), ("many", 3, MANY))),
     (spreads.trial_sum, (("table", PAIR, TABLE), ("rows", ROWS, WRONG_ROWS))),
+    (trials.trial_counts, (("table", PAIR, TABLE), ("number", HALF, FRACTION), ("rows", ROWS, WRONG_ROWS))),
+    (trials.rows_from, (("table", PAIR, TABLE), ("number", TWO, FRACTION))),
+    (trials.rows_below, (("table", PAIR, TABLE), ("number", TWO, FRACTION))),
+    (trials.is_trial, (("counts", COUNTS, WRONG_COUNTS), ("trial", TRIAL, WRONG_TRIAL))),
+    (trials.trial_example, (("counts", COUNTS, WRONG_COUNTS), ("trial", TRIAL, WRONG_TRIAL))),
+    (stretches.stretch_table, (("table", PAIR, TABLE),) + STRETCH),
+    (stretches.within, (("table", PAIR, TABLE),) + STRETCH),
+    (stretches.rows_within, (("table", PAIR, TABLE),) + STRETCH),
+    (means.mean_of, (("table", PAIR, TABLE), ("row", TRIED, WRONG_TRIED))),
+    (means.spread_of, (("table", PAIR, TABLE), ("row", TRIED, WRONG_TRIED))),
+    (means.surely_within, TOLD + STRETCH),
+    (means.outside, TOLD + STRETCH),
+    (means.greatest_bound, TOLD + (("most", NIL, MOST),)),
 )
 EXAMPLES = PARAMETERS + ((tables.is_table, (("value", PAIR, []),)),)
 
@@ -139,7 +50,7 @@ class Arguments(unittest.TestCase):
             call(*arguments)
         except errors.RootError as error:
             self.assertIs(type(error), getattr(errors, name))
-            if name in ("InvalidTable", "InvalidFraction", "InvalidIndex", "InvalidNumber"):
+            if name in ("InvalidTable", "InvalidFraction", "InvalidIndex", "InvalidNumber", "InvalidCounts"):
                 self.assertIs(error.given, told)
             else:
                 self.assertIs(type(error.index), type(told))
@@ -215,9 +126,15 @@ class Arguments(unittest.TestCase):
                         self.assertEqual(repr(value), shown)
 
     def test_defined_where_listed(self):
-        for call, _ in EXAMPLES:
-            self.assertIn(call.__module__, ("rootsabove.tables", "rootsabove.spreads"))
-            self.assertEqual(call.__module__ == "rootsabove.tables", hasattr(tables, call.__name__))
+        # What the interface lists under each file, in its order.
+        for module, names in (
+                (tables, "root_counts squares_of polynomial corner_minors rows_at root_near likes is_table"),
+                (trials, "trial_counts rows_from rows_below is_trial trial_example"),
+                (stretches, "stretch_table within rows_within"),
+                (means, "mean_of spread_of surely_within outside greatest_bound"),
+                (spreads, "is_spread turns_to turned sums_table sum_near trial_sum")):
+            found = [call.__name__ for call, _ in EXAMPLES if call.__module__ == module.__name__]
+            self.assertEqual(found, names.split())
 
 
 class Limits(unittest.TestCase):
@@ -231,6 +148,25 @@ class Limits(unittest.TestCase):
         self.assertEqual(spreads.sums_table(PAIR, 1), PAIR)
         self.assertEqual(spreads.sums_table(PAIR, 2), (((4, 1),),))
         self.assertEqual(spreads.sums_table(CROSS, 3), (((5, 1),),))
+
+    def test_let_stretches_and_means_pass(self):
+        self.assertEqual(stretches.within(PAIR, ONE, ONE), 1)
+        self.assertEqual(len(stretches.rows_within(PAIR, THREE, THREE)), 1)
+        self.assertIs(means.surely_within(ONE, NIL, ONE, ONE), True)
+        self.assertIsNone(means.outside(ONE, NIL, ONE, ONE))
+        self.assertEqual(means.greatest_bound(ONE, NIL, LESS), ONE)
+        for table, row in ((((TWO,),), (LESS,)), (PAIR, (NIL, LESS))):
+            self.assertEqual(means.mean_of(table, row), TWO)
+
+    def test_trial_hangs_on_counts(self):
+        for counts in ((1, 0, 0), (1, 1, 0), (1, 1, 1), (2, 1, 1), (5, 0, 0), (0, 0, 5), (0, 5, 0)):
+            size = sum(counts)
+            self.assertIs(trials.is_trial(counts, counts), True)
+            for wrong in ((size + 1, 0, 0), (0, size + 1, 0), (0, 0, size + 1), (0, 0, 0)):
+                for call in (trials.is_trial, trials.trial_example):
+                    with self.assertRaises(errors.InvalidCounts) as caught:
+                        call(counts, wrong)
+                    self.assertIs(caught.exception.given, wrong)
 
     def test_one_row_has_no_turn(self):
         for turn in ((0, 0, ONE), (0, 1, ONE), (1, 0, NIL), (0, -1, ONE)):

@@ -14,6 +14,32 @@ TABLES = r"""
 [1, (), (21, True), (16, False), (-7, False), (2,), (1, 1), 2]
 """
 
+TRIALS = r"""
+>>> from rootsabove.trials import is_trial, rows_below, rows_from, trial_counts, trial_example
+>>> [trial_counts(swap, nil, ((one, nil),)), trial_counts(pair, two, ((one, one), (one, less))), len(rows_from(pair, two)), len(rows_from(pair, one)), len(rows_below(pair, (5, 2))), rows_below(pair, one)]
+[(0, 1, 0), (1, 0, 1), 1, 2, 1, ()]
+>>> [is_trial((1, 0, 1), (0, 1, 0)), is_trial((1, 0, 1), (0, 2, 0)), is_trial((2, 0, 0), (0, 1, 0)), trial_example((2, 0, 0), (0, 1, 0))]
+[True, False, False, None]
+>>> form, tried = trial_example((1, 0, 1), (0, 1, 0))
+>>> [root_counts(form, nil), trial_counts(form, nil, tried)]
+[(1, 0, 1), (0, 1, 0)]
+"""
+
+STRETCHES = r"""
+>>> from rootsabove.stretches import rows_within, stretch_table, within
+>>> [stretch_table(pair, one, two), within(pair, one, two), within(pair, one, three), within(swap, nil, half), len(rows_within(golden, one, two))]
+[(((1, 1), (1, 1)), ((1, 1), (1, 1))), 1, 2, 0, 1]
+"""
+
+MEANS = r"""
+>>> from rootsabove.means import greatest_bound, mean_of, outside, spread_of, surely_within
+>>> [mean_of(pair, (one, nil)), spread_of(pair, (one, nil)), surely_within(two, one, one, three), surely_within(two, one, one, (5, 2)), outside(two, one, one, three), greatest_bound(two, one, one)]
+[(2, 1), (1, 1), True, False, None, (3, 1)]
+>>> lower, upper, share = outside(two, one, one, (5, 2))
+>>> [lower[0] < lower[1], 2 * upper[0] > 5 * upper[1], outside(two, nil, three, three) is None]
+[True, True, False]
+"""
+
 # The names that the interface has bound by then.
 BEFORE_SPREADS = r"""
 >>> nil, one, two, three, four = (0, 1), (1, 1), (2, 1), (3, 1), (4, 1)
@@ -42,6 +68,10 @@ class Examples(unittest.TestCase):
 
     def test_tables(self):
         self.check("tables", TABLES)
+
+    def test_trials_stretches_means(self):
+        # The names are those that the examples of tables.py bind.
+        self.check("trials, stretches, means", TABLES + TRIALS + STRETCHES + MEANS)
 
     def test_spreads(self):
         self.check("spreads", BEFORE_SPREADS + SPREADS)

@@ -1,0 +1,132 @@
+"""What is wrong for an argument, with the class of its error and what the error keeps."""
+
+from byhand import FIGURES
+
+NIL, HALF, ONE, TWO, THREE, LESS = (0, 1), (1, 2), (1, 1), (2, 1), (3, 1), (-1, 1)
+PAIR = ((TWO, ONE), (ONE, TWO))
+CROSS = ((NIL, ONE, NIL), (ONE, NIL, NIL), (NIL, NIL, (5, 1)))
+
+
+class Own:
+    """A thing that is no part of any told form, and is equal to all."""
+
+    def __eq__(self, other):
+        return True
+
+    __hash__ = None
+
+
+def nested(value, depth):
+    for _ in range(depth):
+        value = (value,)
+    return value
+
+
+ANYTHING = (None, True, False, -1, "text", "", b"bytes", b"", [], [1], {}, {1: 2}, set(), {1, 2}, frozenset(), Own(),
+            Own, len, object(), nested((), 14), nested(1, 14), nested([], 13), ("a", "b"), (None, None), ((), ()),
+            ([], []), ({}, {}), range(2), 10 ** 500, -10 ** 500)
+NO_ROWS = ANYTHING + (0, 1, (), (1,), (1, 2, 3), [1, 2], (2, 4), (0, 2), (0, 0), (1, 0), (1, -1), (1, -2),
+                      (-1, -2), (True, 1), (1, True), (False, 1), ("1", 2), (1, "2"), (None, 1), (1, None),
+                      ((1, 1), 1), (1, (1, 1)), "12", {1: 1, 2: 2}, (10 * FIGURES, 5))
+NO_FRACTIONS = NO_ROWS + (((1, 1), (1, 1)),)
+
+
+def not_told(value):
+    """The value told as a list in the place of one of its tuples."""
+    if type(value) is not tuple:
+        return []
+    found = [list(value)]
+    for place, part in enumerate(value):
+        found += [value[:place] + (other,) + value[place + 1:] for other in not_told(part)]
+    return found
+
+
+NO_TABLES = ANYTHING + tuple(not_told(PAIR)) + (
+    0, 1, (), ((),), ((), ()), ONE, (ONE,), (ONE, ONE), ((ONE, ONE),), ((ONE,), (ONE,)), ((ONE, TWO), (ONE, TWO)),
+    ((ONE, NIL), (NIL,)), ((ONE, NIL), (NIL, ONE, ONE)), ((ONE, NIL, NIL), (NIL, ONE, NIL)),
+    tuple(tuple(ONE if i == j else NIL for j in range(6)) for i in range(6)),
+    (((2, 2),),), (((0, 2),),), (((1, 0),),), (((1, -1),),), (((True, 1),),), (((1, True),),), ((1,),), (("ab",),),
+    ((ONE, (2, 4)), ((2, 4), ONE)), ((ONE, (1, 2)), ((2, 4), ONE)), ((ONE, None), (None, ONE)),
+    ((ONE, (1, 2)), ((-1, 2), ONE)), (((FIGURES * 10, 5),),), {0: (ONE,)}, ("ab", "ba"), (PAIR, PAIR),
+)
+NO_WHOLES = ANYTHING + ((), (1,), ONE, "1", [0])
+
+
+def given(name, values):
+    return [(value, name, value) for value in values]
+
+
+def at(name, pairs):
+    return [(value, name, index) for value, index in pairs]
+
+
+def instead(value, place, part):
+    return value[:place] + (part,) + value[place + 1:]
+
+
+TABLE = given("InvalidTable", NO_TABLES)
+FRACTION = given("InvalidFraction", NO_FRACTIONS)
+INDEX = given("InvalidIndex", NO_WHOLES + (2, 3))
+MANY = given("InvalidNumber", NO_WHOLES + (0, 1001, -1, 2000))
+SIZE = given("InvalidNumber", NO_WHOLES + (0, 3, 4, -1))
+
+ROOTS = (THREE, ONE, NIL)
+WRONG_ROOTS = at("InvalidRoots", (
+    [(value, None) for value in (None, True, 0, 1, "abc", "", b"abc", [], list(ROOTS), {}, {1, 2, 3}, Own(), (),
+                                 (NIL,) * 7, (NIL,) * 200, ("a",) * 7)]
+    + [(instead(ROOTS, place, wrong), place) for place in range(3) for wrong in NO_FRACTIONS]
+    + [((NIL, ONE, NIL), 1), ((THREE, ONE, TWO), 2), ((ONE, TWO, "a"), 1), ((ONE, "a", TWO), 1), ((HALF, (2, 3)), 1),
+       (((-1, 2), (-1, 3)), 1), ((NIL,) * 5 + ((1, FIGURES),), 5), (("a",) * 6, 0), ((None, None), 0)]))
+
+DIAGONAL = (TWO, ONE, ONE)
+WRONG_DIAGONAL = at("InvalidRow", (
+    [(value, None) for value in (None, True, 3, "abc", b"abc", [], list(DIAGONAL), {1: 1, 2: 2, 3: 3}, {1, 2, 3},
+                                 Own(), (), (ONE,), (ONE, ONE), (ONE,) * 4, ("a",) * 4)]
+    + [(instead(DIAGONAL, place, wrong), place) for place in range(3) for wrong in NO_FRACTIONS]
+    + [((None, "a", ONE), 0), ((ONE, "a", None), 1)]))
+WRONG_ROW = at("InvalidRow", (
+    [(value, None) for value in (None, True, 3, "abc", b"abc", [], [ONE], {}, Own(), (), (ONE,) * 7, ("a",) * 8)]
+    + [(instead(DIAGONAL, place, wrong), place) for place in range(3) for wrong in NO_FRACTIONS]
+    + [((None,), 0), ((ONE,) * 5 + ("a",), 5)]))
+
+TURN = (0, 2, HALF)
+NO_TURNS = NO_FRACTIONS + (
+    [0, 2, HALF], (0, 2), (0, 2, HALF, HALF), (0, 0, HALF), (2, 2, ONE), (0, 3, HALF), (3, 0, HALF), (-1, 0, HALF),
+    (0, -1, HALF), (True, 2, HALF), (0, True, HALF), (False, 1, HALF), ("0", 1, HALF), (0, None, HALF), (0, 2, [1, 2]),
+    (0, 2, (-1, 2)), (0, 2, (3, 2)), (0, 2, (2, 1)), (0, 2, (2, 4)), (0, 2, (1, -2)), (0, 2, 1), (0, 2, 0),
+    (0, 2, True), (0, 2, None), (0, 2, (1, 0)), (0, 2, (FIGURES + 1, FIGURES)), (0, 2, (-1, FIGURES)), ((0, 2), 1, HALF),
+)
+WRONG_TURNS = at("InvalidTurns", (
+    [(value, None) for value in (None, True, 0, "abc", "", b"", [], [TURN], {}, {1, 2}, Own())]
+    + [((wrong,), 0) for wrong in NO_TURNS] + [((TURN, TURN, wrong, TURN), 2) for wrong in NO_TURNS]
+    + [((wrong, None), 0) for wrong in NO_TURNS] + [(TURN, 0), ((TURN, None, "a"), 1)]))
+
+ROWS = ((ONE, NIL), (ONE, TWO))
+WRONG_ROWS = at("InvalidRows", (
+    [(value, None) for value in (None, True, 0, "abc", "", b"", [], list(ROWS), {}, {1, 2}, Own(), ())]
+    + [((wrong,), 0) for wrong in NO_ROWS + ((ONE,), (ONE,) * 3, [ONE, ONE], (ONE, 1), (ONE, (2, 4)), (NIL, NIL))]
+    + [((ROWS[0], wrong), 1) for wrong in NO_ROWS + ((ONE,), (ONE,) * 3, [ONE, ONE], (ONE, None), (NIL, NIL))]
+    + [(((ONE, TWO), (HALF, ONE)), 1), (((ONE, TWO), (NIL, NIL), None), 1), ((ROWS[0], ROWS[1], (THREE, HALF)), 2),
+       ((ROWS[0], ROWS[1], None), 2), ((ROWS[0], ROWS[0], None), 1), (((NIL, NIL), None), 0), (ROWS[0], 0),
+       ((ROWS[0],) * 7, 1), (((FIGURES, 1), (1, FIGURES)), 0), ((((1, FIGURES), ONE), (ONE, (FIGURES, 1))), 1)]))
+
+# Wrong beside LOW, the mean and the counts, as they stand in test_arguments.
+LOW, MEAN, COUNTS, TRIAL = HALF, ONE, (2, 0, 1), (1, 1, 0)
+HIGH = given("InvalidFraction", NO_FRACTIONS + (NIL, LESS, (1, 3), (FIGURES, 2 * FIGURES + 1), (-FIGURES, 1)))
+SPREAD = given("InvalidFraction", NO_FRACTIONS + (LESS, (-1, FIGURES), (-FIGURES, 1)))
+MOST = given("InvalidFraction", NO_FRACTIONS + (ONE, TWO, (FIGURES + 1, FIGURES), (FIGURES, 1)))
+NO_COUNTS = NO_WHOLES + (
+    [1, 0, 1], (1, 0), (1, 0, 1, 0), (0, 0, 0), (6, 0, 0), (0, 6, 0), (2, 2, 2), (1, 0, 5), (-1, 1, 1), (1, -1, 1),
+    (1, 1, -1), (6, 0, -1), (True, 0, 1), (1, False, 1), (1, 0, True), (1, None, 1), ("1", 0, 1), (1, 0, (1,)),
+    (1, [], 1), (ONE, NIL, ONE), ((1, 0, 1),), "101", b"101", {1: 1, 2: 2, 3: 3}, range(3), (1, 0, FIGURES),
+    (FIGURES, -FIGURES, 1), (1, 0, 10 ** 500), (None, None, None), (1, Own(), 1),
+)
+WRONG_COUNTS = given("InvalidCounts", NO_COUNTS)
+WRONG_TRIAL = given("InvalidCounts", NO_COUNTS + ((2, 0, 2), (4, 0, 0), (0, 4, 0), (1, 1, 2), (5, 0, 0)))
+
+TRIED = (ONE, NIL)
+WRONG_TRIED = at("InvalidRow", (
+    [(value, None) for value in (None, True, 2, "ab", b"ab", "", [], list(TRIED), {1: 1, 2: 2}, {1, 2}, Own(), (),
+                                 (ONE,), (ONE, NIL, NIL), ("a",), ("a",) * 3, (NIL,), (NIL,) * 3)]
+    + [(instead(TRIED, place, wrong), place) for place in range(2) for wrong in NO_FRACTIONS]
+    + [((NIL, NIL), None), ((NIL, "a"), 1), ((None, NIL), 0), ((NIL, (0, 2)), 1), (("a", "b"), 0), (ONE, 0)]))
