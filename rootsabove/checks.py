@@ -3,7 +3,8 @@
 from math import gcd
 
 from rootsabove.errors import (
-    InvalidCounts, InvalidFraction, InvalidIndex, InvalidNumber, InvalidRoots, InvalidRow, InvalidRows,
+    InvalidBorder, InvalidCounts, InvalidFraction, InvalidIndex, InvalidNumber, InvalidRoots, InvalidRow, InvalidRows,
+    InvalidSquares,
 )
 from rootsabove.quotients import is_above, whole_row
 from rootsabove.wholes import rest_beside
@@ -83,9 +84,21 @@ def check_many(many):
     check_number(many, MOST_MANY)
 
 
+def check_above(above, size):
+    """Checks how many roots are to be above, of a table of so many rows."""
+    if not is_whole_within(above, 0, size):
+        raise InvalidIndex(above)
+
+
 def check_counts(counts, most):
     """Checks a triple of counts with a sum from 1 to most."""
     if not is_counts(counts, most):
+        raise InvalidCounts(counts)
+
+
+def check_counts_of(counts, size):
+    """Checks a triple of counts with just this sum."""
+    if not is_counts(counts, size) or sum(counts) != size:
         raise InvalidCounts(counts)
 
 
@@ -95,6 +108,31 @@ def check_row(row, size):
     wrong = first_unlike_fraction(row)
     if wrong is not None:
         raise InvalidRow(wrong)
+
+
+def check_row_up_to(row, most):
+    """Checks a row of 1 to most fractions."""
+    if type(row) is not tuple or not 1 <= len(row) <= most:
+        raise InvalidRow(None)
+    check_row(row, len(row))
+
+
+def check_squares(squares, size):
+    """Checks so many fractions from 0 on."""
+    if not is_tuple_of(squares, size):
+        raise InvalidSquares(None)
+    for index, square in enumerate(squares):
+        if not is_fraction(square) or square[0] < 0:
+            raise InvalidSquares(index)
+
+
+def check_border(border, size):
+    """Checks a border of a table of so many rows."""
+    if type(border) is not tuple or not 1 <= len(border) <= MOST_ROWS - size:
+        raise InvalidBorder(None)
+    for index, row in enumerate(border):
+        if not is_row(row, size):
+            raise InvalidBorder(index)
 
 
 def check_rows(rows, size):
@@ -111,7 +149,12 @@ def check_rows(rows, size):
 
 
 def check_roots(roots):
-    if type(roots) is not tuple or not 1 <= len(roots) <= MOST_ROOTS:
+    check_roots_of(roots, 1, MOST_ROOTS)
+
+
+def check_roots_of(roots, least, most):
+    """Checks told roots, from least to most of them, and never none."""
+    if type(roots) is not tuple or not max(1, least) <= len(roots) <= most:
         raise InvalidRoots(None)
     for index, root in enumerate(roots):
         if not is_fraction(root) or index > 0 and is_above(root, roots[index - 1]):

@@ -2,12 +2,12 @@
 
 from rootsabove.checks import check_fraction, check_fraction_below, check_fraction_from, check_row
 from rootsabove.errors import InvalidRow
-from rootsabove.quotients import fraction, is_above, minus, over, plus, shared_under, times, whole_row, whole_rows
+from rootsabove.quotients import (
+    NOUGHT, ONE, fraction, is_above, minus, over, plus, shared_under, times, whole_row, whole_rows,
+)
 from rootsabove.tables import check_table
 from rootsabove.wholes import dot, shortened
 
-NOUGHT = (0, 1)
-ONE = (1, 1)
 HALF = (1, 2)
 
 

@@ -2,6 +2,9 @@
 
 from math import gcd, lcm
 
+NOUGHT = (0, 1)
+ONE = (1, 1)
+
 
 def fraction(number, under):
     """number / under in lowest terms; under is not 0."""
@@ -26,6 +29,10 @@ def times(one, other):
 def over(one, other):
     """The one over the other, which is not 0."""
     return fraction(one[0] * other[1], one[1] * other[0])
+
+
+def opposite_of(number):
+    return (-number[0], number[1])
 
 
 def is_above(one, other):

@@ -3,10 +3,10 @@
 from itertools import combinations
 
 from rootsabove.checks import (
-    MOST_ROOTS, check_many, check_number, check_roots, check_row, check_rows, is_fraction, is_tuple_of,
+    MOST_ROOTS, check_many, check_number, check_roots, check_row, check_row_up_to, check_rows, is_fraction, is_tuple_of,
     is_whole_within,
 )
-from rootsabove.errors import InvalidRow, InvalidTurns
+from rootsabove.errors import InvalidTurns
 from rootsabove.quotients import (
     fraction, fraction_row, is_above, minus, plus, shared_under, times, whole_row, whole_rows,
 )
@@ -77,9 +77,7 @@ def exchanging_turns(levels, goal):
 
 def turned(diagonal, turns):
     """The diagonal after the turns, one after the other."""
-    if type(diagonal) is not tuple or not 1 <= len(diagonal) <= MOST_ROOTS:
-        raise InvalidRow(None)
-    check_row(diagonal, len(diagonal))
+    check_row_up_to(diagonal, MOST_ROOTS)
     check_turns(turns, len(diagonal))
     now = list(diagonal)
     for i, j, share in turns:

@@ -1,6 +1,8 @@
 """Trials: what counts rows have on a table, rows of a worth from 0 on and below 0, trials of counts."""
 
 from rootsabove.checks import MOST_ROWS, check_counts, check_fraction, check_rows
+from rootsabove.counts import signs_of
+from rootsabove.forms import along_table
 from rootsabove.quotients import fraction_row, whole_less, whole_row
 from rootsabove.tables import check_table
 from rootsabove.wholes import (
@@ -66,13 +68,7 @@ def trial_example(counts, trial):
 
 def plain_table(counts):
     """The table with 1, 0 and -1 along, each as often as the counts tell, and 0 beside."""
-    found = []
-    for number, many in zip((1, 0, -1), counts):
-        for _ in range(many):
-            row = [0] * sum(counts)
-            row[len(found)] = number
-            found.append(fraction_row(row, 1))
-    return tuple(found)
+    return along_table([(sign, 1) for sign in signs_of(counts)])
 
 
 def trial_places(counts, trial):

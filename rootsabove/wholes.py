@@ -83,8 +83,13 @@ def rows_beside(rows, size):
 def noughts_under(rows, size):
     """As many free rows of the size as there are that have the product 0 with each of the rows."""
     leads = leads_of(rows)
+    return [crossed(unit_row(size, (place,)), leads) for place in places_left(leads, size)]
+
+
+def places_left(leads, size):
+    """The places that are the first one of no lead."""
     taken = [first_place(lead) for lead in leads]
-    return [crossed(unit_row(size, (place,)), leads) for place in range(size) if place not in taken]
+    return [place for place in range(size) if place not in taken]
 
 
 def crossed(row, leads):
@@ -100,6 +105,16 @@ def crossed(row, leads):
         row[place] = -back
         row = shortened(row)
     return row
+
+
+def solved(table, goal):
+    """A row x and a number other than 0 such that the table takes x to the goal times the number; None for none."""
+    size = len(table)
+    found = noughts_under([list(line) + [-number] for line, number in zip(table, goal)], size + 1)
+    # Only the row that has its place at the end has a number there: it comes last, if it comes.
+    if len(found) == 0 or found[-1][size] == 0:
+        return None
+    return found[-1][:size], found[-1][size]
 
 
 def tried_row(table):

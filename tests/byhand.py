@@ -142,6 +142,96 @@ def counts_by_squares(table, number):
         below += 1
 
 
+def shifted(numbers, step):
+    """The polynomial with x + step in the place of x, each power multiplied out."""
+    found, power = [Fraction(0)] * len(numbers), [Fraction(1)]
+    for number in numbers:
+        for k, part in enumerate(power):
+            found[k] += number * part
+        power = times(power, [Fraction(step), Fraction(1)])
+    return found
+
+
+def counts_of_polynomial(numbers, number):
+    """By the signs of a polynomial with real zeros alone, with x + t, and with t - x, in the place of x."""
+    size = len(numbers) - 1
+    numbers = shifted(numbers, number)
+    above = changes(numbers)
+    below = changes([value * (-1) ** k for k, value in enumerate(numbers)])
+    return (above, size - above - below, below)
+
+
+def without(values, place):
+    return values[:place] + values[place + 1:]
+
+
+def tied_polynomial(along, squares, last):
+    """Of an arrow, multiplied out: (x - LAST) times all x - ALONG, less each square times all others of these."""
+    total = times(from_roots(along), [-Fraction(last), Fraction(1)])
+    return less_squares(total, along, squares)
+
+
+def changed_polynomial(along, squares, factor):
+    """Of the table with ALONG along and FACTOR times v_i v_j at i, j, multiplied out."""
+    return less_squares(from_roots(along), along, [factor * square for square in squares])
+
+
+def less_squares(total, along, squares):
+    for place, square in enumerate(squares):
+        for k, number in enumerate(from_roots(without(list(along), place))):
+            total[k] -= square * number
+    return total
+
+
+def solution(table, goal):
+    """A row that the table takes to the goal; None if there is none (Gauss, Jordan)."""
+    rows = [[Fraction(number) for number in line] + [Fraction(value)] for line, value in zip(table, goal)]
+    size, pivots = len(table), []
+    for column in range(size):
+        place = next((k for k in range(len(pivots), size) if rows[k][column] != 0), None)
+        if place is None:
+            continue
+        top = len(pivots)
+        rows[top], rows[place] = rows[place], rows[top]
+        rows[top] = [number / rows[top][column] for number in rows[top]]
+        for k in range(size):
+            if k != top:
+                factor = rows[k][column]
+                rows[k] = [a - factor * b for a, b in zip(rows[k], rows[top])]
+        pivots.append(column)
+    if any(row[size] != 0 for row in rows[len(pivots):]):
+        return None
+    found = [Fraction(0)] * size
+    for row, column in zip(rows, pivots):
+        found[column] = row[size]
+    return found
+
+
+def plus_row(table, row, factor):
+    """The table and the factor times v_i v_j more at i, j."""
+    return [[table[i][j] + factor * row[i] * row[j] for j in range(len(row))] for i in range(len(row))]
+
+
+def added(one, other):
+    return [[a + b for a, b in zip(row, more)] for row, more in zip(one, other)]
+
+
+def counts_to(most):
+    """Every triple of whole numbers from 0 on with a sum from 1 to most."""
+    return [counts for size in range(1, most + 1) for counts in counts_of_size(size)]
+
+
+def counts_of_size(size):
+    return [(a, z, size - a - z) for a in range(size + 1) for z in range(size + 1 - a)]
+
+
+def of_counts(source, counts):
+    """A table with the counts at 0."""
+    roots = ([source.choice([1, 2, Fraction(3, 2)]) for _ in range(counts[0])] + [0] * counts[1]
+             + [-source.choice([1, 3, Fraction(1, 2)]) for _ in range(counts[2])])
+    return planted(source, source.sample(roots, len(roots)))
+
+
 def counts_of_roots(roots, number):
     return (sum(1 for root in roots if root > number), sum(1 for root in roots if root == number),
             sum(1 for root in roots if root < number))

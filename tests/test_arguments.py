@@ -4,44 +4,13 @@ import copy
 import inspect
 import unittest
 
-from rootsabove import errors, means, spreads, stretches, tables, trials
-from wrongs import (
-    COUNTS, CROSS, DIAGONAL, FRACTION, HALF, HIGH, INDEX, LESS, LOW, MANY, MEAN, MOST, NIL, NO_FRACTIONS, NO_TABLES,
-    NO_WHOLES, ONE, PAIR, ROOTS, ROWS, SIZE, SPREAD, TABLE, THREE, TRIAL, TRIED, TURN, TWO, WRONG_COUNTS,
-    WRONG_DIAGONAL, WRONG_ROOTS, WRONG_ROW, WRONG_ROWS, WRONG_TRIAL, WRONG_TRIED, WRONG_TURNS,
-)
+from calls import EXAMPLES, LISTED, PARAMETERS
+from rootsabove import changes, errors, laced, means, ranks, spreads, stretches, tables, trials
+from wrongs import CROSS, LESS, NIL, NO_FRACTIONS, NO_TABLES, NO_WHOLES, ONE, PAIR, THREE, TWO
 
-TOLD = (("mean", MEAN, FRACTION), ("spread", TWO, SPREAD))
-STRETCH = (("low", LOW, FRACTION), ("high", THREE, HIGH))
-PARAMETERS = (
-    (tables.root_counts, (("table", PAIR, TABLE), ("number", HALF, FRACTION))),
-    (tables.squares_of, (("table", PAIR, TABLE), ("number", HALF, FRACTION))),
-    (tables.polynomial, (("table", PAIR, TABLE),)),
-    (tables.corner_minors, (("table", PAIR, TABLE), ("number", HALF, FRACTION))),
-    (tables.rows_at, (("table", PAIR, TABLE), ("number", ONE, FRACTION))),
-    (tables.root_near, (("table", PAIR, TABLE), ("index", 1, INDEX), ("many", 7, MANY))),
-    (tables.likes, (("table", PAIR, TABLE),)),
-    (spreads.is_spread, (("roots", ROOTS, WRONG_ROOTS), ("diagonal", DIAGONAL, WRONG_DIAGONAL))),
-    (spreads.turns_to, (("roots", ROOTS, WRONG_ROOTS), ("diagonal", DIAGONAL, WRONG_DIAGONAL))),
-    (spreads.turned, (("diagonal", DIAGONAL, WRONG_ROW), ("turns", (TURN, (1, 0, NIL)), WRONG_TURNS))),
-    (spreads.sums_table, (("table", PAIR, TABLE), ("size", 1, SIZE))),
-    (spreads.sum_near, (("table", PAIR, TABLE), ("size", 2, SIZE), ("many", 3, MANY))),
-    (spreads.trial_sum, (("table", PAIR, TABLE), ("rows", ROWS, WRONG_ROWS))),
-    (trials.trial_counts, (("table", PAIR, TABLE), ("number", HALF, FRACTION), ("rows", ROWS, WRONG_ROWS))),
-    (trials.rows_from, (("table", PAIR, TABLE), ("number", TWO, FRACTION))),
-    (trials.rows_below, (("table", PAIR, TABLE), ("number", TWO, FRACTION))),
-    (trials.is_trial, (("counts", COUNTS, WRONG_COUNTS), ("trial", TRIAL, WRONG_TRIAL))),
-    (trials.trial_example, (("counts", COUNTS, WRONG_COUNTS), ("trial", TRIAL, WRONG_TRIAL))),
-    (stretches.stretch_table, (("table", PAIR, TABLE),) + STRETCH),
-    (stretches.within, (("table", PAIR, TABLE),) + STRETCH),
-    (stretches.rows_within, (("table", PAIR, TABLE),) + STRETCH),
-    (means.mean_of, (("table", PAIR, TABLE), ("row", TRIED, WRONG_TRIED))),
-    (means.spread_of, (("table", PAIR, TABLE), ("row", TRIED, WRONG_TRIED))),
-    (means.surely_within, TOLD + STRETCH),
-    (means.outside, TOLD + STRETCH),
-    (means.greatest_bound, TOLD + (("most", NIL, MOST),)),
-)
-EXAMPLES = PARAMETERS + ((tables.is_table, (("value", PAIR, []),)),)
+GIVEN = ("InvalidTable", "InvalidFraction", "InvalidIndex", "InvalidNumber", "InvalidCounts", "InvalidPlaces",
+         "InvalidBounds")
+
 
 
 class Arguments(unittest.TestCase):
@@ -50,7 +19,7 @@ class Arguments(unittest.TestCase):
             call(*arguments)
         except errors.RootError as error:
             self.assertIs(type(error), getattr(errors, name))
-            if name in ("InvalidTable", "InvalidFraction", "InvalidIndex", "InvalidNumber", "InvalidCounts"):
+            if name in GIVEN:
                 self.assertIs(error.given, told)
             else:
                 self.assertIs(type(error.index), type(told))
@@ -126,15 +95,11 @@ class Arguments(unittest.TestCase):
                         self.assertEqual(repr(value), shown)
 
     def test_defined_where_listed(self):
-        # What the interface lists under each file, in its order.
-        for module, names in (
-                (tables, "root_counts squares_of polynomial corner_minors rows_at root_near likes is_table"),
-                (trials, "trial_counts rows_from rows_below is_trial trial_example"),
-                (stretches, "stretch_table within rows_within"),
-                (means, "mean_of spread_of surely_within outside greatest_bound"),
-                (spreads, "is_spread turns_to turned sums_table sum_near trial_sum")):
+        for module, names in LISTED:
             found = [call.__name__ for call, _ in EXAMPLES if call.__module__ == module.__name__]
             self.assertEqual(found, names.split())
+            for name in names.split():
+                self.assertTrue(inspect.isfunction(getattr(module, name)))
 
 
 class Limits(unittest.TestCase):

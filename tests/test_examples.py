@@ -40,10 +40,30 @@ MEANS = r"""
 [True, True, False]
 """
 
-# The names that the interface has bound by then.
-BEFORE_SPREADS = r"""
+LACED = r"""
+>>> from rootsabove.laced import arrow_counts, arrow_of, corner_of, is_laced, rows_between, unit_squares
 >>> nil, one, two, three, four = (0, 1), (1, 1), (2, 1), (3, 1), (4, 1)
 >>> both = ((two, one), (one, two))
+>>> [corner_of(both, (1,)), is_laced((three, one), (two,)), is_laced((three, one), (four,)), is_laced((four, two, nil), (one,))]
+[(((2, 1),),), True, False, True]
+>>> [arrow_of((three, one), (two,)), arrow_of((three, two, one), (two, two)), arrow_of((three, two, one), (two, one)), arrow_of((three, one), (four,))]
+[(((1, 1),), (2, 1)), (((1, 1), (0, 1)), (2, 1)), (((0, 1), (0, 1)), (3, 1)), None]
+>>> [arrow_counts((two, two), (one, nil), two, two), arrow_counts((two,), (one,), two, three), rows_between((three, one), (two,)), rows_between((three, one), (four,))]
+[(1, 1, 1), (0, 1, 1), (), None]
+>>> [unit_squares(both, three), unit_squares(both, two), unit_squares(((two, nil), (nil, two)), two)]
+[((1, 2), (1, 2)), None, None]
+"""
+
+CHANGES = r"""
+>>> from rootsabove.changes import change_of, changed_counts, counts_along, factor_for
+>>> [changed_counts((nil, nil), (one, one), one, one), changed_counts((nil, nil), (one, one), one, nil), changed_counts((nil, two), (one, nil), one, one)]
+[(1, 0, 1), (1, 1, 0), (1, 1, 0)]
+>>> [change_of((two, nil), (nil, nil)), change_of((three, one), (two, nil)), change_of((two, one), (three, nil))]
+[((2, 1), (0, 1)), ((1, 2), (3, 2)), None]
+>>> [factor_for(both, (one, nil), nil), factor_for(both, (one, one), one), factor_for(both, (one, nil), one), factor_for(both, (one, (-1, 1)), three), factor_for(both, (nil, nil), three)]
+[(-3, 2), (-1, 1), (0, 1), (1, 1), None]
+>>> [counts_along(both, (one, nil), nil), counts_along(both, (one, one), one)]
+[((1, 0, 1), (1, 1, 0), (2, 0, 0)), ((0, 1, 1), (0, 2, 0), (1, 1, 0))]
 """
 
 SPREADS = r"""
@@ -55,6 +75,18 @@ SPREADS = r"""
 >>> cross = ((nil, one, nil), (one, nil, nil), (nil, nil, (5, 1)))
 >>> [sums_table(cross, 2), sums_table(both, 2), sum_near(cross, 2, 1), sum_near(both, 1, 10), trial_sum(both, ((one, one),)), trial_sum(both, ((one, nil), (one, one)))]
 [(((0, 1), (0, 1), (0, 1)), ((0, 1), (5, 1), (1, 1)), ((0, 1), (1, 1), (5, 1))), (((4, 1),),), (6, True), (30, True), (3, 1), (4, 1)]
+"""
+
+RANKS = r"""
+>>> from rootsabove.ranks import change_to, is_change, least_change
+>>> nil, half, one, two, less = (0, 1), (1, 2), (1, 1), (2, 1), (-1, 1)
+>>> pair, swap = ((two, one), (one, two)), ((nil, one), (one, nil))
+>>> [is_change((1, 0, 1), (1, 1, 0), (2, 0, 0)), is_change((1, 0, 1), (0, 1, 1), (2, 0, 0)), is_change((0, 1, 0), (1, 0, 0), (0, 1, 0)), is_change((2, 0, 0), (0, 0, 2), (0, 2, 0))]
+[True, False, False, True]
+>>> [least_change((1, 0, 1), (2, 0, 0)), least_change((2, 0, 0), (0, 1, 1)), least_change((1, 1, 1), (0, 3, 0)), least_change((0, 2, 0), (0, 2, 0))]
+[(1, 0), (0, 2), (1, 1), (0, 0)]
+>>> [change_to(((nil,),), nil, (1, 0, 0), (1, 0, 0))[0][0][0] > 0, change_to(((two,),), nil, (0, 0, 1), (0, 1, 0)), change_to(pair, two, (0, 2, 0), (1, 0, 1)), change_to(swap, nil, (0, 1, 1), (2, 0, 0))]
+[True, (((-2, 1),),), (((0, 1), (0, 1)), ((0, 1), (0, 1))), None]
 """
 
 
@@ -73,8 +105,12 @@ class Examples(unittest.TestCase):
         # The names are those that the examples of tables.py bind.
         self.check("trials, stretches, means", TABLES + TRIALS + STRETCHES + MEANS)
 
-    def test_spreads(self):
-        self.check("spreads", BEFORE_SPREADS + SPREADS)
+    def test_laced_changes_spreads(self):
+        # Those of laced.py bind the names.
+        self.check("laced, changes, spreads", LACED + CHANGES + SPREADS)
+
+    def test_ranks(self):
+        self.check("ranks", RANKS)
 
     def test_readme(self):
         self.check("README.md", (Path(__file__).resolve().parent.parent / "README.md").read_text())

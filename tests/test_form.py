@@ -9,7 +9,7 @@ FILES = sorted(path for path in PACKAGE.rglob("*") if path.is_file() and path.su
 BUILTINS = set("""len range enumerate zip min max sum abs sorted reversed int str bool list tuple dict set isinstance
     ord repr any all divmod type super ValueError""".split())
 LIBRARY = {"math": {"gcd", "lcm", "isqrt", "comb"}, "itertools": {"combinations", "permutations", "product"}}
-METHODS = {"append", "extend", "items", "keys", "values", "get", "pop"}
+METHODS = {"append", "extend", "items", "keys", "values", "get", "pop", "remove"}
 STATEMENTS = (
     ast.FunctionDef, ast.ClassDef, ast.Return, ast.Assign, ast.AugAssign, ast.For, ast.While, ast.If, ast.Raise,
     ast.Expr, ast.Pass, ast.Break, ast.Continue, ast.ImportFrom,
@@ -51,7 +51,7 @@ class Form(unittest.TestCase):
     def test_module_level(self):
         for name, tree in self.each_tree():
             for place, node in enumerate(tree.body):
-                plain = isinstance(node, ast.Assign) and isinstance(ast.literal_eval(node.value), (int, str, tuple))
+                plain = isinstance(node, ast.Assign) and isinstance(ast.literal_eval(node.value), (int, str, tuple, dict))
                 text = place == 0 and isinstance(node, ast.Expr) and isinstance(node.value.value, str)
                 known = isinstance(node, (ast.FunctionDef, ast.ClassDef, ast.ImportFrom))
                 self.assertTrue(plain or text or known, (name, node.lineno))

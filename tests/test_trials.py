@@ -5,17 +5,12 @@ from fractions import Fraction
 from itertools import product
 
 import byhand
-from byhand import FIGURES, row_read, source_of, table_read, table_told, told
+from byhand import FIGURES, counts_to, row_read, source_of, table_read, table_told, told
 from rootsabove.tables import root_counts, rows_at
 from rootsabove.trials import is_trial, rows_below, rows_from, trial_counts, trial_example
 from samples import GOLDEN, SILVER, great_tables, other_tables, planted_tables
 
 NUMBERS = (Fraction(0), Fraction(1), Fraction(-5, 4), Fraction(7, 3))
-
-
-def counts_to(most):
-    """Every triple of whole numbers from 0 on with a sum from 1 to most."""
-    return [counts for counts in product(range(most + 1), repeat=3) if 1 <= sum(counts) <= most]
 
 
 def trials_by_corners(counts):

@@ -130,3 +130,58 @@ WRONG_TRIED = at("InvalidRow", (
                                  (ONE,), (ONE, NIL, NIL), ("a",), ("a",) * 3, (NIL,), (NIL,) * 3)]
     + [(instead(TRIED, place, wrong), place) for place in range(2) for wrong in NO_FRACTIONS]
     + [((NIL, NIL), None), ((NIL, "a"), 1), ((None, NIL), 0), ((NIL, (0, 2)), 1), (("a", "b"), 0), (ONE, 0)]))
+
+PLACES = (0, 2)
+NO_PLACES = ANYTHING + (
+    (), "1", 0, 1, -1, [0], [0, 2], (3,), (-1,), (0, 3), (-1, 0), (0, -1), (2, 0), (1, 1), (0, 0, 1), (0, 2, 1), (0, 1, 2, 3),
+    (0, 1, 2, 2), (True,), (0, True), (False, 1), (True, 2), (0, None), ("0",), (0, "1"), ((0,),), (0, (1,)), (NIL, ONE),
+    (0, [1]), {0: 0}, {0}, range(2), "01", b"01", (0, 10 ** 500), (0, Own()), (-3, -2, -1), (0, 1, 2, 10 ** 399),
+)
+WRONG_PLACES = given("InvalidPlaces", NO_PLACES)
+
+NO_TOLD = (None, True, 0, 1, "abc", "ab", "", b"abc", b"ab", [], {}, {1, 2}, {1: 2, 3: 4}, Own(), ())
+
+
+def wrong_others(good, sizes, least, most):
+    """What is wrong for others: None ahead of any index for those that are too few or too many."""
+    bad = [(value, None) for value in NO_TOLD + (list(good),)]
+    for size in sizes:
+        if not least <= size <= most:
+            bad += [((NIL,) * size, None), (("a",) * size, None), ((ONE, TWO) + (NIL,) * (size - 2), None)]
+        else:
+            bad += [(("a",) * size, 0), ((ONE,) * (size - 1) + ((2, 2),), size - 1)]
+    bad += [(instead(good, place, wrong), place) for place in range(len(good)) for wrong in NO_FRACTIONS]
+    bad += [((NIL, ONE), 1), ((ONE, (FIGURES + 1, FIGURES)), 1), ((HALF, (2, 3)), 1), (("a", ONE), 0),
+            ((ONE, "a"), 1), ((None, None), 0)]
+    return at("InvalidRoots", bad)
+
+
+# Of the roots 3, 1, 0 and of the roots 3, 1.
+FEWER = wrong_others((TWO, NIL), (3, 4, 5, 6, 7, 12), 1, 2)
+ONE_FEWER = wrong_others((TWO, NIL), (3, 4, 5, 6, 7, 12), 2, 2) + at("InvalidRoots", [
+    ((TWO,), None), (("a",), None), ((), None)])
+AS_MANY = wrong_others((TWO, NIL), (3, 4, 5, 6, 7, 12), 2, 2) + at("InvalidRoots", [
+    ((TWO,), None), (("a",), None), ((TWO, ONE, NIL), None)])
+ROOTS_OF_TWO = (THREE, ONE)
+
+ALONG = (TWO, NIL, TWO)
+WRONG_ALONG = at("InvalidRow", (
+    [(value, None) for value in NO_TOLD + (list(ALONG), (ONE,) * 6, (ONE,) * 7, ("a",) * 6, (NIL,) * 200)]
+    + [(instead(ALONG, place, wrong), place) for place in range(3) for wrong in NO_FRACTIONS]
+    + [((None,), 0), ((ONE,) * 4 + ("a",), 4), (("a", None), 0)]))
+SQUARES = (ONE, NIL, HALF)
+WRONG_SQUARES = at("InvalidSquares", (
+    [(value, None) for value in NO_TOLD + (list(SQUARES), (ONE,), (ONE, NIL), (ONE,) * 4, (ONE,) * 5, ("a",) * 2,
+                                           ("a",) * 4, (LESS,) * 2, (LESS,) * 4)]
+    + [(instead(SQUARES, place, wrong), place) for place in range(3)
+       for wrong in NO_FRACTIONS + (LESS, (-1, FIGURES), (-FIGURES, 1))]
+    + [((LESS, "a", None), 0), ((NIL, LESS, "a"), 1), ((NIL, "a", LESS), 1)]))
+
+ROW = (ONE, NIL)
+WRONG_ROW_OF_TWO = [wrong for wrong in WRONG_TRIED if wrong[0] != (NIL, NIL)]
+
+BEFORE, CHANGE, AFTER = (2, 0, 1), (0, 1, 2), (1, 1, 1)
+OF_THREE = given("InvalidCounts", NO_COUNTS + tuple(
+    counts for counts in ((1, 0, 0), (1, 0, 1), (1, 1, 2), (4, 0, 0), (0, 4, 0), (0, 2, 0), (5, 0, 0), (1, 1, 3))))
+OF_TWO = given("InvalidCounts", tuple(counts for counts in NO_COUNTS if counts != (1, 0, 1)) + (
+    (1, 0, 0), (1, 1, 1), (3, 0, 0), (0, 0, 1), (0, 3, 0), (0, 0, 3), (2, 2, 1)))
