@@ -5,7 +5,7 @@ from rootsabove.counts import ABOVE, AT, BELOW, side_of, with_more
 from rootsabove.laced import check_beside, counts_along_slant, is_tied, squares_beside, sum_over
 from rootsabove.quotients import NOUGHT, ONE, fraction, is_above, plus, shared_under, times, whole_less, whole_row
 from rootsabove.tables import check_table, root_counts
-from rootsabove.wholes import dot, solved
+from rootsabove.wholes import dot, noughts_under, solved
 
 
 def changed_counts(along, squares, factor, number):
@@ -76,6 +76,16 @@ def factor_for(table, row, number):
         return None
     goal_under = shared_under((row,))
     return fraction(-share * goal_under * goal_under, product * under)
+
+
+def rows_that_stay(table, row, number):
+    """Free rows of whole numbers, as many as there are, that stay at the number whatever s is.
+
+    The table takes them to the number times themselves, and they have the product 0 with the row.
+    """
+    check_changed(table, row, number)
+    whole, _ = whole_less(table, number)
+    return noughts_under(whole + [whole_row(row)], len(row))
 
 
 def counts_along(table, row, number):

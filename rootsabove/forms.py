@@ -32,8 +32,8 @@ def table_of_squares(squares):
     """The table whose worth at each row x is the sum of FRACTION * (ROW . x) * (ROW . x) over the squares."""
     parts = [whole_square(share, row) for share, row in squares]
     under = 1
-    for _, lower, _ in parts:
-        under = lcm(under, lower)
+    for part in parts:
+        under = lcm(under, part[1])
     size = len(parts[0][2])
     found = [[0] * size for _ in range(size)]
     for number, lower, row in parts:
@@ -47,3 +47,7 @@ def whole_square(share, row):
     """The square as number / under times that of a row of whole numbers."""
     under = shared_under((row,))
     return share[0], share[1] * under * under, whole_rows((row,), under)[0]
+
+
+def opposite_table(table):
+    return tuple(tuple([opposite_of(number) for number in row]) for row in table)

@@ -14,11 +14,16 @@ STEPS = {
 }
 
 
-def is_change(before, change, after):
-    """Whether the triples go together."""
+def check_together(before, change, after):
+    """Checks three triples of one sum."""
     check_counts(before, MOST_ROWS)
     check_counts_of(change, sum(before))
     check_counts_of(after, sum(before))
+
+
+def is_change(before, change, after):
+    """Whether the triples go together."""
+    check_together(before, change, after)
     return go_together(before, change, after)
 
 

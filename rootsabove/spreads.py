@@ -3,15 +3,17 @@
 from itertools import combinations
 
 from rootsabove.checks import (
-    MOST_ROOTS, check_many, check_number, check_roots, check_row, check_row_up_to, check_rows, is_fraction, is_tuple_of,
-    is_whole_within,
+    MOST_ROOTS, check_fraction, check_many, check_number, check_roots, check_row, check_row_up_to, check_rows,
+    is_fraction, is_tuple_of, is_whole_within,
 )
+from rootsabove.counts import ABOVE
 from rootsabove.errors import InvalidTurns
 from rootsabove.quotients import (
-    fraction, fraction_row, is_above, minus, plus, shared_under, times, whole_row, whole_rows,
+    fraction, fraction_row, is_above, minus, plus, shared_under, times, whole_less, whole_row, whole_rows,
 )
 from rootsabove.tables import check_table, near
 from rootsabove.wholes import dot, shortened
+from rootsabove.zeros import counts_of, polynomial_of
 
 
 def is_spread(roots, diagonal):
@@ -138,6 +140,14 @@ def sum_near(table, size, many):
     sums = sums_table(table, size)
     check_many(many)
     return near(sums, 0, many)
+
+
+def is_sum_up_to(table, size, number):
+    """Whether the trial sums of all so many free rows are up to the number: so is the sum of the greatest roots."""
+    sums = sums_table(table, size)
+    check_fraction(number)
+    whole, _ = whole_less(sums, number)
+    return counts_of(polynomial_of(whole))[ABOVE] == 0
 
 
 def trial_sum(table, rows):

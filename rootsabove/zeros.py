@@ -37,6 +37,14 @@ def moved(numbers, step):
     return found
 
 
+def with_zeros(zeros):
+    """The polynomial with these zeros."""
+    found = [1]
+    for zero in zeros:
+        found = [back - zero * number for back, number in zip([0] + found, found + [0])]
+    return found
+
+
 def counts_of(numbers):
     """How many zeros are above, at and below 0 (Descartes)."""
     signs = [number > 0 for number in numbers if number]

@@ -183,27 +183,48 @@ def less_squares(total, along, squares):
     return total
 
 
-def solution(table, goal):
-    """A row that the table takes to the goal; None if there is none (Gauss, Jordan)."""
-    rows = [[Fraction(number) for number in line] + [Fraction(value)] for line, value in zip(table, goal)]
-    size, pivots = len(table), []
-    for column in range(size):
-        place = next((k for k in range(len(pivots), size) if rows[k][column] != 0), None)
+def reduced(rows, width):
+    """The rows with 1 in one column and 0 in all other rows there, as far as there are such columns (Gauss, Jordan)."""
+    rows = [[Fraction(number) for number in row] for row in rows]
+    pivots = []
+    for column in range(width):
+        top = len(pivots)
+        place = next((k for k in range(top, len(rows)) if rows[k][column] != 0), None)
         if place is None:
             continue
-        top = len(pivots)
         rows[top], rows[place] = rows[place], rows[top]
         rows[top] = [number / rows[top][column] for number in rows[top]]
-        for k in range(size):
+        for k in range(len(rows)):
             if k != top:
                 factor = rows[k][column]
                 rows[k] = [a - factor * b for a, b in zip(rows[k], rows[top])]
         pivots.append(column)
+    return rows, pivots
+
+
+def solution(table, goal):
+    """A row that the table takes to the goal; None if there is none."""
+    size = len(table)
+    rows, pivots = reduced([list(line) + [value] for line, value in zip(table, goal)], size)
     if any(row[size] != 0 for row in rows[len(pivots):]):
         return None
     found = [Fraction(0)] * size
     for row, column in zip(rows, pivots):
         found[column] = row[size]
+    return found
+
+
+def noughts(table):
+    """Free rows, as many as there are, that the table takes to noughts."""
+    size = len(table)
+    rows, pivots = reduced(table, size)
+    found = []
+    for place in range(size):
+        if place not in pivots:
+            row = [Fraction(int(j == place)) for j in range(size)]
+            for line, column in zip(rows, pivots):
+                row[column] = -line[place]
+            found.append(row)
     return found
 
 
@@ -338,4 +359,4 @@ def is_row_of(value, size):
 
 def is_told(value):
     return (type(value) is tuple and len(value) == 2 and type(value[0]) is int and type(value[1]) is int
-            and value == told(Fraction(value[0], value[1])))
+            and value[1] > 0 and value == told(Fraction(value[0], value[1])))

@@ -5,7 +5,7 @@ import inspect
 import unittest
 
 from calls import EXAMPLES, LISTED, PARAMETERS
-from rootsabove import changes, errors, laced, means, ranks, spreads, stretches, tables, trials
+from rootsabove import errors, means, spreads, stretches, tables, trials
 from wrongs import CROSS, LESS, NIL, NO_FRACTIONS, NO_TABLES, NO_WHOLES, ONE, PAIR, THREE, TWO
 
 GIVEN = ("InvalidTable", "InvalidFraction", "InvalidIndex", "InvalidNumber", "InvalidCounts", "InvalidPlaces",

@@ -89,6 +89,38 @@ RANKS = r"""
 [True, (((-2, 1),),), (((0, 1), (0, 1)), ((0, 1), (0, 1))), None]
 """
 
+NEARBY = r"""
+>>> from rootsabove.nearby import above_near, distance_near, first_near, high_table, last_near, low_table, near_table
+>>> gold, loose = ((nil, one), (one, two)), ((nil, one), (one, nil))
+>>> [above_near(pair, two, one), above_near(pair, two, (3, 2)), above_near(pair, two, nil), near_table(pair, two, one, 2), near_table(((one,),), nil, one, 0)]
+[(0, 1), (0, 2), (1, 1), None, (((-1, 1),),)]
+>>> [distance_near(pair, two, 2, 10), distance_near(pair, two, 0, 10), distance_near(pair, two, 1, 10), distance_near(gold, nil, 2, 10)]
+[(10, True), (10, True), (0, True), (4, False)]
+>>> [last_near(pair, loose, 10), first_near(pair, loose, 10), low_table(pair, loose, nil), high_table(pair, loose, (4, 1)), low_table(pair, loose, half) is None]
+[(0, True), (40, True), None, None, False]
+"""
+
+FILLINGS = r"""
+>>> from rootsabove.fillings import bordered, fill_triples, filled, is_bordered
+>>> [fill_triples(((nil,),), ((one,),)), fill_triples(((one,),), ((one,),)), fill_triples(pair, ((one, less),))]
+[((1, 0, 1),), ((1, 0, 1), (1, 1, 0), (2, 0, 0)), ((2, 0, 1), (2, 1, 0), (3, 0, 0))]
+>>> [filled(((one,),), ((one,),), (1, 1, 0)), filled(((nil,),), ((one,),), (2, 0, 0)), filled(pair, ((one, less),), (2, 1, 0)), len(filled(((nil,),), ((one,), (two,)), (2, 0, 1)))]
+[(((1, 1),),), None, (((2, 1),),), 2]
+>>> [is_bordered((1, 0, 0), (1, 0, 0), (1, 0, 1)), is_bordered((0, 1, 0), (0, 1, 0), (1, 1, 0)), is_bordered((1, 0, 0), (0, 0, 1), (2, 0, 0)), is_bordered((0, 2, 0), (0, 2, 0), (2, 0, 2))]
+[True, False, False, True]
+>>> [bordered(((nil,),), (0, 1, 0), (1, 1, 0)), bordered(((one,),), (1, 0, 0), (1, 1, 0)) is None, bordered(((nil,),), (0, 1, 0), (0, 2, 0))]
+[None, False, ((((0, 1),),), (((0, 1),),))]
+"""
+
+CERTIFICATES = r"""
+>>> from rootsabove.certificates import certify_bordering, certify_change, certify_from, certify_mean, certify_spread, certify_within
+>>> from rootsabove.checker import accepts
+>>> [certify_from(pair, two, 1)[0][0], certify_from(pair, two, 2)[0][0], certify_within(pair, one, two, 2)[0][0], certify_mean(two, one, one, three), certify_spread((three, one), (nil, four))]
+['roots from', 'fewer from', 'fewer within', (('surely within', (2, 1), (1, 1), (1, 1), (3, 1)), ()), (('not spread', ((3, 1), (1, 1)), ((0, 1), (4, 1))), 1)]
+>>> [certify_change((1, 0, 1), (0, 1, 1), (2, 0, 0)), accepts(("roots from", pair, two, 1), ((one, one),)), accepts(("roots from", pair, two, 1), ((one, less),)), accepts(certify_bordering((0, 1, 0), (0, 1, 0), (1, 0, 1))[0], ())]
+[(('no change', (1, 0, 1), (0, 1, 1), (2, 0, 0)), ()), True, False, False]
+"""
+
 
 class Examples(unittest.TestCase):
     def check(self, name, text):
@@ -109,8 +141,14 @@ class Examples(unittest.TestCase):
         # Those of laced.py bind the names.
         self.check("laced, changes, spreads", LACED + CHANGES + SPREADS)
 
-    def test_ranks(self):
-        self.check("ranks", RANKS)
+    def test_ranks_nearby_fillings(self):
+        # Those of ranks.py bind the names.
+        self.check("ranks, nearby, fillings", RANKS + NEARBY + FILLINGS)
+
+    def test_whole_interface(self):
+        # In the order in which it stands: the names that are bound go on.
+        self.check("interface", TABLES + TRIALS + STRETCHES + MEANS + LACED + CHANGES + SPREADS + RANKS + NEARBY
+                   + FILLINGS + CERTIFICATES)
 
     def test_readme(self):
         self.check("README.md", (Path(__file__).resolve().parent.parent / "README.md").read_text())

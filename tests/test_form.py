@@ -12,7 +12,7 @@ LIBRARY = {"math": {"gcd", "lcm", "isqrt", "comb"}, "itertools": {"combinations"
 METHODS = {"append", "extend", "items", "keys", "values", "get", "pop", "remove"}
 STATEMENTS = (
     ast.FunctionDef, ast.ClassDef, ast.Return, ast.Assign, ast.AugAssign, ast.For, ast.While, ast.If, ast.Raise,
-    ast.Expr, ast.Pass, ast.Break, ast.Continue, ast.ImportFrom,
+    ast.Expr, ast.Pass, ast.Break, ast.Continue, ast.ImportFrom, ast.Try,
 )
 NOT_NAMES = set("""mro elements open input law register compile copyright credits dir eval exec exit gc globals help id
     license locals os quit vars sys hash filter format map next iter round print bytes object""".split())
@@ -26,6 +26,20 @@ def names_bound(tree):
             yield node.arg
         elif isinstance(node, ast.Name) and isinstance(node.ctx, ast.Store):
             yield node.id
+
+
+def functions_above(tree, node):
+    return {other.name for other in tree.body if isinstance(other, ast.FunctionDef) and other.lineno < node.lineno}
+
+
+def is_plain(value, functions):
+    """Numbers, texts, tuples and dicts of them, and of functions defined above."""
+    if isinstance(value, ast.Dict):
+        return all(isinstance(ast.literal_eval(key), (int, str)) and not isinstance(part, (ast.Dict, ast.List))
+                   and is_plain(part, functions) for key, part in zip(value.keys, value.values))
+    if isinstance(value, ast.Name):
+        return value.id in functions
+    return isinstance(ast.literal_eval(value), (int, str, tuple))
 
 
 class Form(unittest.TestCase):
@@ -51,7 +65,7 @@ class Form(unittest.TestCase):
     def test_module_level(self):
         for name, tree in self.each_tree():
             for place, node in enumerate(tree.body):
-                plain = isinstance(node, ast.Assign) and isinstance(ast.literal_eval(node.value), (int, str, tuple, dict))
+                plain = isinstance(node, ast.Assign) and is_plain(node.value, functions_above(tree, node))
                 text = place == 0 and isinstance(node, ast.Expr) and isinstance(node.value.value, str)
                 known = isinstance(node, (ast.FunctionDef, ast.ClassDef, ast.ImportFrom))
                 self.assertTrue(plain or text or known, (name, node.lineno))
@@ -78,6 +92,9 @@ class Form(unittest.TestCase):
                     self.assertIsInstance(node, STATEMENTS, (name, node.lineno))
                 if isinstance(node, (ast.FunctionDef, ast.ClassDef)):
                     self.assertEqual(node.decorator_list, [])
+                if isinstance(node, ast.Try):
+                    self.assertEqual([handler.type.id for handler in node.handlers], ["RootError"])
+                    self.assertEqual((node.orelse, node.finalbody), ([], []))
                 if isinstance(node, ast.FunctionDef):
                     self.assertLessEqual(node.end_lineno - node.lineno + 1, 40, (name, node.name))
                     self.assertFalse(node.args.vararg or node.args.kwarg or node.args.kwonlyargs)

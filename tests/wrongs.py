@@ -185,3 +185,21 @@ OF_THREE = given("InvalidCounts", NO_COUNTS + tuple(
     counts for counts in ((1, 0, 0), (1, 0, 1), (1, 1, 2), (4, 0, 0), (0, 4, 0), (0, 2, 0), (5, 0, 0), (1, 1, 3))))
 OF_TWO = given("InvalidCounts", tuple(counts for counts in NO_COUNTS if counts != (1, 0, 1)) + (
     (1, 0, 0), (1, 1, 1), (3, 0, 0), (0, 0, 1), (0, 3, 0), (0, 0, 3), (2, 2, 1)))
+
+# Of a table of two rows.
+WRONG_SIZE = SPREAD
+WRONG_ABOVE = given("InvalidIndex", NO_WHOLES + (3, 4, -2))
+LOOSE = ((HALF, ONE), (ONE, NIL))
+WRONG_BOUNDS = given("InvalidBounds", NO_TABLES + (
+    ((ONE,),), ((NIL,),), CROSS, ((ONE, LESS), (LESS, ONE)), ((LESS, NIL), (NIL, ONE)), ((ONE, NIL), (NIL, LESS)),
+    ((ONE, (-1, FIGURES)), ((-1, FIGURES), ONE)), (((-FIGURES, 1), NIL), (NIL, NIL))))
+BORDER = ((ONE, NIL), (HALF, LESS))
+WRONG_BORDER = at("InvalidBorder", (
+    [(value, None) for value in NO_TOLD + (list(BORDER), (ROW,) * 4, (ROW,) * 5, (ROW,) * 200, ("a",) * 4, (None,) * 6)]
+    + [((wrong,), 0) for wrong in NO_ROWS + ((ONE,), (ONE,) * 3, [ONE, ONE], (ONE, 1), (ONE, (2, 4)))]
+    + [((ROW, wrong, ROW), 1) for wrong in NO_ROWS + ((ONE,), (ONE,) * 3, [ONE, ONE], (ONE, None))]
+    + [((ROW, ROW, ROW[0]), 2), ((ROW, "a", None), 1), ((None, None, None), 0), (("a",) * 3, 0), (ROW, 0)]))
+OF_FOUR = given("InvalidCounts", NO_COUNTS + ((1, 0, 0), (1, 0, 1), (1, 1, 1), (0, 0, 3), (2, 2, 1), (5, 0, 0)))
+UP_TO_FOUR = given("InvalidCounts", NO_COUNTS + ((5, 0, 0), (0, 5, 0), (1, 1, 3), (2, 1, 2)))
+UP_TO_THREE = given("InvalidCounts", NO_COUNTS + ((5, 0, 0), (0, 4, 0), (1, 1, 2), (2, 1, 1), (0, 0, 4)))
+LEAST = SIZE
