@@ -31,7 +31,7 @@ def are_squares_of_counts(table, number, counts, paper):
     check_table(table)
     check_fraction(number)
     check_counts_of(counts, len(table))
-    if not is_tuple_of(paper, len(table)) or not all(is_square(square, len(table)) for square in paper):
+    if not is_tuple_of(paper, len(table)) or not all(is_square(square) for square in paper):
         return False
     check_rows(tuple(row for _, row in paper), len(table))
     if counts_along_slant([share for share, _ in paper], NOUGHT) != counts:
@@ -39,24 +39,24 @@ def are_squares_of_counts(table, number, counts, paper):
     return table_of_squares(paper) == less_along(table, number)
 
 
-def is_square(value, size):
-    return is_tuple_of(value, 2) and is_fraction(value[0]) and is_row(value[1], size)
+def is_square(value):
+    """Whether the value is a pair of a fraction and something else."""
+    return is_tuple_of(value, 2) and is_fraction(value[0])
 
 
 def are_rows_from(table, number, least, paper):
-    check_least(table, number, least)
+    check_least(table, least)
     return is_tuple_of(paper, least) and trial_counts(table, number, paper)[BELOW] == 0
 
 
 def are_rows_below(table, number, least, paper):
-    check_least(table, number, least)
+    check_least(table, least)
     many = len(table) - least + 1
     return is_tuple_of(paper, many) and trial_counts(table, number, paper)[BELOW] == many
 
 
-def check_least(table, number, least):
+def check_least(table, least):
     check_table(table)
-    check_fraction(number)
     check_number(least, len(table))
 
 
@@ -104,11 +104,9 @@ def are_rows_that_lace(roots, others, paper):
     check_fewer(roots, others)
     if not is_tuple_of(paper, len(roots) - len(others) - 1):
         return False
+    # So many rows, each to be fewer than the one before it, can only be one fewer each time.
     chain = (roots, *paper, others)
-    for one, other in zip(chain, chain[1:]):
-        if not is_laced(one, other) or len(other) != len(one) - 1:
-            return False
-    return True
+    return all(is_laced(one, other) for one, other in zip(chain, chain[1:]))
 
 
 def is_arrow(roots, others, paper):
@@ -194,7 +192,6 @@ def is_small_table(table, number, size, above, paper):
 
 def is_table_that_breaks(table, bounds, number, paper):
     check_bounded(table, bounds)
-    check_fraction(number)
     if not is_tuple_of(paper, 2):
         return False
     form, row = paper

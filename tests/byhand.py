@@ -1,7 +1,7 @@
 """Reckoning with Python's own Fraction, apart from the package: tables are lists of lists here."""
 
 from fractions import Fraction
-from itertools import combinations, permutations
+from itertools import combinations, combinations_with_replacement, permutations
 from math import floor
 from random import Random
 
@@ -235,6 +235,11 @@ def plus_row(table, row, factor):
 
 def added(one, other):
     return [[a + b for a, b in zip(row, more)] for row, more in zip(one, other)]
+
+
+def falling(values, size):
+    """All rows of so many of the values, from the greatest down."""
+    return [list(found)[::-1] for found in combinations_with_replacement(sorted(values), size)]
 
 
 def counts_to(most):

@@ -2,20 +2,16 @@
 
 import unittest
 from fractions import Fraction
-from itertools import combinations_with_replacement, product
+from itertools import product
 
 import byhand
-from byhand import FIGURES, read, row_read, row_told, source_of, table_told, told
+from byhand import FIGURES, falling, read, row_read, row_told, source_of, table_told, told
 from rootsabove.changes import change_of, changed_counts, counts_along, factor_for
 from rootsabove.tables import root_counts, rows_at
 from samples import GOLDEN, SILVER, great_tables, other_tables, planted_tables
 
 LITTLE = Fraction(1, FIGURES)
 FACTORS = (Fraction(0), Fraction(1), Fraction(-1), Fraction(2, 3), Fraction(-5, 2))
-
-
-def falling(values, size):
-    return [list(found)[::-1] for found in combinations_with_replacement(sorted(values), size)]
 
 
 def raised_by_counts(roots, others):

@@ -2,19 +2,15 @@
 
 import unittest
 from fractions import Fraction
-from itertools import combinations, combinations_with_replacement, product
+from itertools import combinations, product
 
 import byhand
-from byhand import FIGURES, read, row_read, row_told, source_of, table_read, table_told, told
+from byhand import FIGURES, falling, read, row_read, row_told, source_of, table_read, table_told, told
 from rootsabove.laced import arrow_counts, arrow_of, corner_of, is_laced, rows_between, unit_squares
 from rootsabove.tables import is_table, polynomial, root_counts, rows_at
 from samples import GOLDEN, SILVER, great_tables, other_tables, planted_tables
 
 LITTLE = Fraction(1, FIGURES)
-
-
-def falling(values, size):
-    return [list(found)[::-1] for found in combinations_with_replacement(sorted(values), size)]
 
 
 def laced_by_counts(roots, others):
